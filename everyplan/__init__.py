@@ -1,0 +1,1 @@
+"""Everyplan: asks of tables, turned in every way."""
