@@ -2,6 +2,7 @@
 
 import random
 
+from everyplan.asks import columns
 from everyplan.books import first_break
 from everyplan.errors import PlanError
 
@@ -200,8 +201,6 @@ class Maker:
         return (word, self.sum(scope, kind), self.sum(scope, kind))
 
     def scope(self, frame, *asks):
-        from everyplan.asks import columns
-
         return {name: kind for ask in asks for name, kind, _ in columns(frame, ask)}
 
     def ask(self, frame, deep=3, somes=1):
