@@ -60,9 +60,9 @@ def is_point(thing, tables):
     goal = named_among(tables, thing[2])
     if table is None or goal is None:
         return False
-    if not names_among(thing[1], column_names(table)) or not names_among(thing[3], column_names(goal)):
+    if not names_among(thing[1], column_names(table)) or thing[3] not in goal[2]:
         return False
-    return thing[3] in goal[2] and kinds_at(table, thing[1]) == kinds_at(goal, thing[3])
+    return kinds_at(table, thing[1]) == kinds_at(goal, thing[3])
 
 
 def frame_of(tables, points):

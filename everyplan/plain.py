@@ -1,6 +1,7 @@
 """The plain reading: when a condition holds, and what the answer of an ask is."""
 
 from everyplan.asks import asks_within, columns
+from everyplan.books import values_at
 from everyplan.conds import conjuncts
 from everyplan.frames import column_names, table_named
 from everyplan.sums import steps_of, sum_step, worth_by
@@ -15,17 +16,13 @@ class Found:
         self.weights = weights
 
 
-def values_by(places, row):
-    return tuple([row[place] for place in places])
-
-
 # Rows that are alike in all columns that are read are judged together: the dict to judge them by, and the rows.
 def bundled(found, read):
     names = [name for name in found.names if name in read]
     places = [found.names.index(name) for name in names]
     bundles = {}
     for row in found.weights:
-        bundles.setdefault(values_by(places, row), []).append(row)
+        bundles.setdefault(values_at(row, places), []).append(row)
     return [(dict(zip(names, values)), rows) for values, rows in bundles.items()]
 
 
@@ -131,7 +128,7 @@ def table_found(frame, book, part, given):
     places = sorted_places(names)
     weights = {}
     for row in book[part[1]]:
-        add_weight(weights, values_by(places, row), 1)
+        add_weight(weights, values_at(row, places), 1)
     return Found(sorted(names), weights)
 
 
@@ -180,10 +177,10 @@ def join_found(frame, book, part, given):
     for row, partners in matches(frame, book, part[3], given):
         weight = given[0].weights[row]
         for other in partners:
-            weights[values_by(places, row + other)] = weight * given[1].weights[other]
+            weights[values_at(row + other, places)] = weight * given[1].weights[other]
         if part[0] == "left" and not partners:
             nothings = tuple([None for name in given[1].names])
-            weights[values_by(places, row + nothings)] = weight
+            weights[values_at(row + nothings, places)] = weight
     return Found(sorted(names), weights)
 
 
@@ -217,14 +214,14 @@ def group_found(frame, book, part, given):
     places = [names.index(name) for name in part[2]]
     groups = {}
     for row, weight in given[0].weights.items():
-        groups.setdefault(values_by(places, row), []).append((row, weight))
+        groups.setdefault(values_at(row, places), []).append((row, weight))
     tells = [(word, None if name is None else names.index(name)) for own, word, name in part[3]]
     told_names = list(part[2]) + [tell[0] for tell in part[3]]
     order = sorted_places(told_names)
     weights = {}
     for values, members in groups.items():
         whole = values + tuple([told_of(word, place, members) for word, place in tells])
-        weights[values_by(order, whole)] = 1
+        weights[values_at(whole, order)] = 1
     return Found(sorted(told_names), weights)
 
 

@@ -1,4 +1,4 @@
-"""Words, and the names that are made of them."""
+"""Looks at things of whatever kind: whether they are words, names, or tuples of them."""
 
 LETTERS = "abcdefghijklmnopqrstuvwxyz"
 LONGEST = 8

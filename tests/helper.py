@@ -68,6 +68,20 @@ def equal(one, other):
     return ("is", column(one), column(other))
 
 
+def nots(many, inner):
+    """The condition within so many nots."""
+    for _ in range(many):
+        inner = ("not", inner)
+    return inner
+
+
+def both(*conds):
+    whole = conds[-1]
+    for cond in reversed(conds[:-1]):
+        whole = ("both", cond, whole)
+    return whole
+
+
 FRAME = (
     (
         ("town", (("name", "text", False), ("folk", "number", True), ("land", "text", True)), (("name",),)),

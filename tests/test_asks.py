@@ -222,6 +222,7 @@ class Refused(unittest.TestCase):
             ("pick", TOWN, ("some", TOWN, YES)), ("pick", TOWN, ("some", ("table", "seen", "s"), ("some", TOWN, YES))),
             ("join", TOWN, ROAD, ("some", ROAD, YES)), ("half", TOWN, ROAD, ("some", ROAD, YES)),
             ("pick", TOWN, ("some", ("show", SEEN, (("t.land", number(1)),)), YES)),
+            ("pick", TOWN, ("some", ("show", SEEN, (("a", number(1)), ("t.name", number(1)), ("z", number(1)))), YES)),
         ):
             self.no_ask(ask)
 

@@ -1,23 +1,10 @@
 import unittest
 
 from everyplan.conds import alike, conjuncts, follows, joined, rejects
-from tests.helper import FRAME, SEEN, Maker, column, equal, number, text
+from tests.helper import FRAME, SEEN, Maker, both, column, equal, nots, number, text
 
 YES = ("yes",)
 A, B, C, D = (("is", column(name), number(1)) for name in "abcd")
-
-
-def nots(many, inner):
-    for _ in range(many):
-        inner = ("not", inner)
-    return inner
-
-
-def both(*conds):
-    whole = conds[-1]
-    for cond in reversed(conds[:-1]):
-        whole = ("both", cond, whole)
-    return whole
 
 
 class Conjuncts(unittest.TestCase):

@@ -5,7 +5,7 @@ from everyplan.asks import columns, part_at
 from everyplan.errors import NoAsk
 from everyplan.facts import along, keys_of, met_once, source
 from everyplan.plain import answer
-from tests.helper import FRAME, ROAD, SEEN, TOWN, Maker, column, equal, number, refused, text
+from tests.helper import FRAME, ROAD, SEEN, TOWN, Maker, both, column, equal, number, refused, text
 
 YES = ("yes",)
 NAME = ("t.name",)
@@ -14,13 +14,6 @@ ROAD_KEY = ("r.long", "r.start")
 
 def is_value(name, one):
     return ("is", column(name), one)
-
-
-def both(*conds):
-    whole = conds[-1]
-    for cond in reversed(conds[:-1]):
-        whole = ("both", cond, whole)
-    return whole
 
 
 class Keys(unittest.TestCase):
@@ -51,7 +44,7 @@ class Keys(unittest.TestCase):
         for cond in (
             is_value("t.land", text("uk")), equal("t.name", "t.land"), ("less", column("t.name"), text("york")), ("not", york),
             ("either", york, york), ("not", ("not", york)), ("isnothing", column("t.name")), ("is", text("york"), text("york")),
-            ("some", SEEN, york), equal("t.name", "t.name"),
+            ("some", SEEN, york), equal("t.name", "t.name"), ("is", text("t.name"), text("york")),
         ):
             self.told(("pick", TOWN, cond), NAME)
         long = ("is", column("r.long"), ("plus", number(1), number(2)))
@@ -183,6 +176,7 @@ class MetOnce(unittest.TestCase):
             equal("t.name", "t.land"), equal("t.name", "t.name"), ("not", equal("t.name", "r.start")),
             ("either", equal("t.name", "r.start"), equal("t.name", "r.start")), ("less", column("t.name"), column("r.start")),
             ("some", SEEN, equal("t.name", "r.start")), ("not", ("not", equal("t.name", "r.start"))),
+            ("is", text("t.name"), column("r.start")),
         ):
             self.no(ROAD, TOWN, cond)
         self.no(SEEN, ROAD, both(equal("r.start", "s.y"), ("is", column("r.long"), ("plus", column("r.long"), column("s.x")))))
@@ -293,6 +287,8 @@ class Along(unittest.TestCase):
                      equal("g.v", "g.k"), equal("f.c", "f.c"), ("some", ("table", "far", "q"), c)):
             self.told(cond, None)
         self.told(("both", equal("f.c", "g.k"), equal("f.b", "g.l")), None)
+        self.told(("both", equal("f.a", "g.k"), ("is", text("f.b"), column("g.l"))), None)
+        self.told(("both", equal("f.a", "g.k"), ("is", column("f.b"), text("g.l"))), None)
 
     def test_the_goal_is_a_table(self):
         c = equal("f.c", "g.k")

@@ -98,6 +98,7 @@ class NoSuchText(unittest.TestCase):
         self.no_text("table a\ncolumn x number\nkey x\npoint a x to a x\ntable b\ncolumn x number")
         self.no_text("table a\ncolumn x number\nkey x\npoint a x to a x\ncolumn y number")
         self.no_text("table a\ncolumn x number\nkey x\npoint a x to a x\nkey x")
+        self.no_text("table a\ncolumn x number\nkey x\npoint a x to a x\ntable b")
 
     def test_lines_are_looked_at_ahead_of_the_frame(self):
         self.no_text("table A\ncolumn x colour\nkey")

@@ -4,19 +4,13 @@ import unittest
 from everyplan.asks import columns
 from everyplan.errors import NoAsk
 from everyplan.plain import answer, holds, in_order, told
-from tests.helper import FRAME, ROAD, SEEN, TOWN, Maker, a_book, column, equal, number, odd_things, refused, text
+from tests.helper import FRAME, ROAD, SEEN, TOWN, Maker, a_book, column, equal, nots, number, odd_things, refused, text
 
 YES = ("yes",)
 NO = ("not", YES)
 X, M = column("x"), column("m")
 NOTHING = ("nothing", "number")
 BIG = int("9" * 30)
-
-
-def nots(many, inner):
-    for _ in range(many):
-        inner = ("not", inner)
-    return inner
 
 
 class Holds(unittest.TestCase):

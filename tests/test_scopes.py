@@ -5,15 +5,9 @@ from everyplan.asks import columns
 from everyplan.plain import holds
 from everyplan.scopes import columns_in, cond_put_in
 from everyplan.sums import worth
-from tests.helper import FRAME, ROAD, SEEN, TOWN, Maker, column, equal, number, text
+from tests.helper import FRAME, ROAD, SEEN, TOWN, Maker, column, equal, nots, number, text
 
 YES = ("yes",)
-
-
-def nots(many, inner):
-    for _ in range(many):
-        inner = ("not", inner)
-    return inner
 
 
 class ColumnsIn(unittest.TestCase):
