@@ -116,13 +116,15 @@ def least_keys(gathered):
     return sorted(kept, key=lambda key: (len(key), key))[:MOST_KEYS]
 
 
-def known_of(frame, ask):
-    def build(part, given):
-        gather = KEYS_BY[part[0]]
-        found = columns_by(frame, part, [one.found for one in given])
-        return Known(found, least_keys(gather(frame, part, given)))
+# What is known of a part by what is known of the asks straight within it.
+def known_by(frame, part, given):
+    gather = KEYS_BY[part[0]]
+    found = columns_by(frame, part, [one.found for one in given])
+    return Known(found, least_keys(gather(frame, part, given)))
 
-    return folded(ask, checked_asks, build)
+
+def known_of(frame, ask):
+    return folded(ask, checked_asks, lambda part, given: known_by(frame, part, given))
 
 
 def keys_of(frame, ask):

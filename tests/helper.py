@@ -1,10 +1,13 @@
 """What the tests share: things of every kind, looks at refusals, and makers of frames, books and asks by chance."""
 
 import random
+import unittest
 
 from everyplan.asks import columns
 from everyplan.books import first_break
-from everyplan.errors import PlanError
+from everyplan.errors import NoTurn, PlanError
+from everyplan.facts import keys_of
+from everyplan.plain import answer
 
 REFUSALS = (
     "NoFrame", "NoAsk", "NoTurn", "NoTree", "NoOrder", "NoPlan", "NoMore", "NoText", "NoRow", "NoName", "NoChange",
@@ -45,6 +48,45 @@ def refused(case, error, call, *given):
     case.assertIs(type(caught.exception), error)
     case.assertIsInstance(caught.exception, ValueError)
     case.assertEqual(repr(given), before)
+
+
+def not_let_by(case, turn, *given):
+    """Refused with NoTurn, as a single turn; what was handed in stays as it was."""
+    before = repr(given)
+    with case.assertRaises(PlanError, msg=before) as caught:
+        turn(*given)
+    case.assertIs(type(caught.exception), NoTurn)
+    case.assertIsNone(caught.exception.place)
+    case.assertEqual(repr(given), before)
+
+
+def names_and_kinds(frame, ask):
+    return [one[:2] for one in columns(frame, ask)]
+
+
+def let_by(case, turn, frame, part, rule, more, goal):
+    """The part becomes just the goal, and nothing that was handed in is changed."""
+    before = repr((frame, part, rule, more))
+    case.assertEqual(turn(frame, part, rule, more), goal)
+    case.assertEqual(repr((frame, part, rule, more)), before)
+    case.assertEqual(names_and_kinds(frame, goal), names_and_kinds(frame, part))
+
+
+def odd_turns(case, turn, frame, part, rule, more):
+    """A turn that is let by isn't any more with odd things for its rule, its more, or what stands in that."""
+    turn(frame, part, rule, more)
+    for odd in odd_things():
+        if repr(odd) != repr(rule):
+            not_let_by(case, turn, frame, part, odd, more)
+        not_let_by(case, turn, frame, part, rule, more + (odd,))
+        if repr(odd) != repr(more):
+            not_let_by(case, turn, frame, part, rule, odd)
+        if more and repr(odd) != repr(more[0]):
+            not_let_by(case, turn, frame, part, rule, (odd,))
+    for wrong in (list(more), more + more if more else (None,), (more,), [*more, None], dict.fromkeys(range(len(more)))):
+        not_let_by(case, turn, frame, part, rule, wrong)
+    for wrong in ([rule], (rule,), {rule: 1}, {rule}, rule + " ", rule.upper(), rule.encode(), "no rule"):
+        not_let_by(case, turn, frame, part, wrong, more)
 
 
 def swapped(thing, place, other):
@@ -103,6 +145,50 @@ def a_book():
 TOWN = ("table", "town", "t")
 ROAD = ("table", "road", "r")
 SEEN = ("table", "seen", "s")
+
+
+START = equal("r.start", "t.name")
+# One part for each word of an ask, to be turned by rules that aren't made for it.
+PARTS = (
+    TOWN, ("pick", TOWN, ("less", number(100), column("t.folk"))), ("show", TOWN, (("a", column("t.name")),)),
+    ("join", TOWN, ROAD, START), ("left", TOWN, ROAD, START), ("half", TOWN, ROAD, START), ("lack", TOWN, ROAD, START),
+    ("once", TOWN), ("group", TOWN, ("t.name",), (("n", "count", None),)), ("add", TOWN, TOWN), ("first", TOWN, (), 1),
+)
+
+
+class TurnCase(unittest.TestCase):
+    """Looks at the turns of one file, told as turn; the rules of others are none of its own."""
+
+    turn = None
+    frame = FRAME
+
+    def turned(self, part, rule, goal, more=()):
+        let_by(self, type(self).turn, self.frame, part, rule, more, goal)
+
+    def refused(self, part, rule, more=()):
+        not_let_by(self, type(self).turn, self.frame, part, rule, more)
+
+    def refused_of_all_but(self, words, rule, more=()):
+        for part in PARTS:
+            if part[0] not in words:
+                self.refused(part, rule, more)
+
+    def same_answers(self, forms, rules):
+        for rule in rules:
+            with self.subTest(rule=rule):
+                same_on_books(self, forms, type(self).turn, rule)
+
+    def odd(self, part, rule, more=()):
+        with self.subTest(rule=rule):
+            odd_turns(self, type(self).turn, self.frame, part, rule, more)
+
+    def back_again(self, part, there, back, more=()):
+        turned = type(self).turn(self.frame, part, there, more)
+        self.assertEqual(type(self).turn(self.frame, turned, back, more), part)
+
+    def none_of(self, rules):
+        for rule in rules:
+            self.refused_of_all_but((), rule)
 
 
 class Maker:
@@ -292,3 +378,184 @@ class Maker:
         for one in conds[1:]:
             whole = ("both", whole, one)
         return whole
+
+    def small(self, frame, deep=1):
+        return self.ask(frame, self.chance.randint(0, deep), 1)
+
+    def over(self, frame, *asks, deep=1):
+        return self.cond(frame, self.scope(frame, *asks), deep, 1)
+
+    def shuffled(self, things):
+        return self.chance.sample(list(things), len(things))
+
+    def pointing(self, frame):
+        """A join's (a, b, c), c going along a point from a to b; a frame without points has none."""
+        if not frame[1]:
+            return None
+        table, cols, goal, key = self.chance.choice(frame[1])
+        a, b = ("table", table, self.fresh()), ("table", goal, self.fresh())
+        conds = [("is", *self.shuffled((column(a[2] + "." + col), column(b[2] + "." + name)))) for col, name in zip(cols, key)]
+        names = [a[2] + "." + col for col in cols]
+        roll = self.chance.random()
+        if roll < 0.2:
+            a = ("pick", a, self.over(frame, a))
+        elif roll < 0.3:
+            a = ("join", a, self.small(frame), ("yes",))
+        elif roll < 0.4:
+            a = ("group", a, tuple(names), ((self.fresh(), "count", None),))
+        elif roll < 0.5:
+            a = ("left", a, self.small(frame), ("yes",))
+        elif roll < 0.6:
+            a = ("once", a)
+        return a, b, both(*self.shuffled(conds))
+
+    def meeting(self, frame, a, b):
+        """A condition by which b is met once from a, where b has a key."""
+        keys = keys_of(frame, b)
+        if not keys or self.chance.random() < 0.1:
+            return self.pair_cond(frame, a, b, 1)
+        kinds = self.scope(frame, b)
+        conds = [("is", *self.shuffled((column(name), self.sum(self.scope(frame, a), kinds[name], 1))))
+                 for name in self.chance.choice(keys)]
+        if not conds or self.chance.random() < 0.2:
+            conds.append(self.over(frame, a, b))
+        return both(*self.shuffled(conds))
+
+    def two(self, frame):
+        """Sides and condition of a join, met once in half of the cases."""
+        a, b = self.small(frame), self.small(frame)
+        if self.chance.random() < 0.5:
+            return a, b, self.meeting(frame, a, b)
+        return a, b, self.pair_cond(frame, a, b, 1)
+
+    def links(self, frame, a):
+        """Conditions of few sums, so that one follows from others now and then; and these sums."""
+        scope = self.scope(frame, a)
+        kind = self.chance.choice(("number", "text"))
+        sums = [self.sum(scope, kind, 1) for _ in range(3)]
+        conds = [(self.chance.choice(("is", "is", "less")), self.chance.choice(sums), self.chance.choice(sums))
+                 for _ in range(self.chance.randint(1, 4))]
+        return conds, sums
+
+    def tells(self, scope, words=("count", "sum", "least", "greatest"), least=0):
+        tells = []
+        for _ in range(self.chance.randint(least, 3)):
+            word = self.chance.choice(words)
+            fit = [name for name, kind in scope.items() if word != "sum" or kind == "number"]
+            if word == "count" or fit:
+                tells.append((self.fresh(), word, None if word == "count" else self.chance.choice(fit)))
+        return tuple(tells)
+
+
+def pick_forms(m, f, rule):
+    a = m.small(f, 2)
+    x, b, j = m.two(f)
+    word = m.chance.choice(("join", "left", "half", "lack"))
+    side = m.chance.choice((0, 1)) if word == "join" else 0
+    conds, sums = m.links(f, a)
+    grouped = m.group(a, m.scope(f, a))
+    once = m.chance.random() < 0.3
+    second = ("is", m.chance.choice(sums), m.chance.choice(sums))
+    return {
+        "split": lambda: (("pick", a, ("both", m.over(f, a), m.over(f, a))), ()),
+        "fuse": lambda: (("pick", ("pick", a, m.over(f, a)), m.over(f, a)), ()),
+        "alter": lambda: (("pick", a, both(*conds)), (both(*m.shuffled([*conds, ("yes",), m.chance.choice(conds)])),)),
+        "bare": lambda: (("pick", a, ("yes",)), ()),
+        "dress": lambda: (a, ()),
+        "down": lambda: (("pick", ("once", a), m.over(f, a)), (0,)) if once else (
+            ("pick", (word, x, b, j), m.over(f, (x, b)[side])), (side,)),
+        "up": lambda: (("once", ("pick", a, m.over(f, a))), (0,)) if once else (
+            (word, ("pick", x, m.over(f, x)), ("pick", b, m.over(f, b)), j), (side,)),
+        "over add": lambda: (("pick", ("add", a, ("pick", a, m.over(f, a))), m.over(f, a)), ()),
+        "through show": lambda: (lambda shown: (("pick", shown, m.over(f, shown)), ()))(("show", a, m.pairs(m.scope(f, a)))),
+        "through group": lambda: (("pick", grouped, m.cond(
+            f, {name: kind for name, kind in m.scope(f, a).items() if name in grouped[2]}, 1, 1)), ()),
+        "into": lambda: (("pick", ("join", x, b, j), m.over(f, x, b)), ()),
+        "out": lambda: (("join", x, b, ("both", j, m.over(f, x, b))), ()),
+        "part": lambda: (("pick", a, ("either", m.over(f, a), m.over(f, a))), ()),
+        "known": lambda: (("pick", a, both(*conds)), (m.chance.choice((
+            second, ("less",) + second[1:], ("not", ("isnothing", second[1])), conds[0])),)),
+        "needless": lambda: (("pick", a, both(*m.shuffled([*conds, second]))), (m.chance.randint(0, len(conds)),)),
+        "denied": lambda: (("pick", a, ("not", m.chance.choice((
+            ("not", conds[0]), ("both", conds[0], m.over(f, a)), ("either", conds[0], m.over(f, a)))))), ()),
+    }[rule]()
+
+
+def join_forms(m, f, rule):
+    a, b, c = m.two(f)
+    d = m.small(f)
+    x, y = m.chance.choice(("left", "half", "lack")), m.chance.choice(("left", "half", "lack"))
+    word = m.chance.choice(("join", "left", "half", "lack"))
+    kept = ("join", a, b, c)
+    return {
+        "swap": lambda: (kept, ()),
+        "lean right": lambda: (("join", kept, d, m.pair_cond(f, kept, d, 1)), ()),
+        "lean left": lambda: (("join", d, kept, m.pair_cond(f, d, kept, 1)), ()),
+        "strict": lambda: (("pick", ("left", a, b, c), m.over(f, b)), ()),
+        "sure": lambda: (("left", *m.pointing(f)), ()),
+        "under": lambda: ((word, a, b, ("both", c, m.over(f, b))), ()),
+        "over": lambda: ((word, a, ("pick", b, m.over(f, b)), c), ()),
+        "aside": lambda: (("left", kept, d, m.pair_cond(f, b, d, 1)), ()),
+        "beside": lambda: ((x, (y, a, b, c), d, m.pair_cond(f, a, d, 1)), ()),
+    }[rule]()
+
+
+def half_forms(m, f, rule):
+    a, b, c = m.two(f)
+    word = m.chance.choice(("half", "lack"))
+    some = ("some", b, c)
+    pairs = m.pairs(m.scope(f, a))
+    sure = [name for name, _, maybe in columns(f, b) if not maybe]
+    d = m.small(f)
+    return {
+        "flat": lambda: (("pick", a, m.chance.choice((some, ("not", some)))), ()),
+        "bent": lambda: ((word, a, b, c), ()),
+        "whole": lambda: (("half", a, b, m.meeting(f, a, b)), ()),
+        "halved": lambda: (("show", ("join", a, b, m.meeting(f, a, b)), pairs), ()),
+        "thin half": lambda: ((word, a, b, c), ()),
+        "each half": lambda: ((word, a, b, c), ()),
+        "all half": lambda: ((word, a, ("once", b), c), ()),
+        "half down": lambda: ((word, ("join", a, b, c), d, m.pair_cond(f, a, d, 1)), ()),
+        "lacking": lambda: (("lack", a, b, c), (m.chance.choice(sure or ["none"]),)),
+        "once half": lambda: (("once", ("show", ("join", a, b, c), pairs)), ()),
+    }[rule]()
+
+
+def leave_forms(m, f, rule):
+    a, b, c = m.two(f)
+    once = m.small(f)
+    pointing = m.pointing(f)
+    return {
+        "along": lambda: (("show", ("join", *pointing), m.pairs(m.scope(f, pointing[0]))), ()),
+        "left out": lambda: (("show", ("left", a, b, m.meeting(f, a, b)), m.pairs(m.scope(f, a))), ()),
+        "half along": lambda: ((m.chance.choice(("half", "lack")), *pointing), ()),
+        "once off": lambda: (("once", once), ()),
+        "once on": lambda: (once, ()),
+        "once in add": lambda: (("once", ("add", a, ("pick", a, m.over(f, a)))), ()),
+        "once in join": lambda: (("once", ("join", a, b, c)), ()),
+        "once in show": lambda: (("once", ("show", a, m.pairs(m.scope(f, a)))), ()),
+    }[rule]()
+
+
+def same_on_books(case, forms, turn, rule, tries=100, least=15, books=3):
+    """Parts of the rule's form by chance: those that are let by keep columns and answers on books that keep the frame."""
+    done = full = 0
+    for seed in range(tries):
+        maker = Maker(seed * 1000 + 17)
+        frame = maker.frame()
+        while rule in ("sure", "along", "half along") and not frame[1]:
+            frame = maker.frame()
+        part, more = forms(maker, frame, rule)
+        try:
+            goal = turn(frame, part, rule, more)
+        except NoTurn:
+            continue
+        done += 1
+        case.assertEqual(names_and_kinds(frame, goal), names_and_kinds(frame, part), (seed, part, goal))
+        for _ in range(books):
+            book = maker.kept_book(frame)
+            found = answer(frame, book, part)
+            case.assertEqual(answer(frame, book, goal), found, (rule, seed, frame, part, more, book))
+            full += bool(found)
+    case.assertGreaterEqual(done, least, rule)
+    case.assertGreaterEqual(full, least // 3, rule)

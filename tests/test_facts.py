@@ -307,6 +307,12 @@ class Along(unittest.TestCase):
         self.told(equal("q.k", "g.k"), None, ("table", "far", "q"))
         self.told(equal("x", "g.k"), None, ("show", ("table", "goal", "q"), (("x", column("q.v")),)))
 
+    def test_another_table_with_a_column_called_so(self):
+        other = ("near", (("c", "number", False),), ())
+        frame = (POINTS[0] + (other,), POINTS[1])
+        self.assertIsNone(along(frame, ("table", "near", "f"), GOAL, equal("f.c", "g.k")))
+        self.assertEqual(along(frame, FROM, GOAL, equal("f.c", "g.k")), ["f.c"])
+
     def test_the_way_is_the_same(self):
         two = ("join", FROM, ("table", "from", "h"), YES)
         self.told(("both", equal("f.a", "g.k"), equal("f.b", "g.l")), ["f.a", "f.b"], two)
