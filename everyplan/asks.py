@@ -247,6 +247,11 @@ def some_paths(cond, path):
     return found
 
 
+# None where an ask of this word has no condition.
+def cond_of(ask):
+    return ask[COND_PLACES[ask[0]]] if ask[0] in COND_PLACES else None
+
+
 # Each child with the path that leads to it through the ask's tuples.
 def child_paths(ask):
     found = [((place,), child) for place, child in enumerate(asks_within(ask), 1)]

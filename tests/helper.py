@@ -8,6 +8,7 @@ from everyplan.books import first_break
 from everyplan.errors import NoTurn, PlanError
 from everyplan.facts import keys_of
 from everyplan.plain import answer
+from everyplan.scopes import columns_in
 
 REFUSALS = (
     "NoFrame", "NoAsk", "NoTurn", "NoTree", "NoOrder", "NoPlan", "NoMore", "NoText", "NoRow", "NoName", "NoChange",
@@ -535,6 +536,69 @@ def leave_forms(m, f, rule):
         "once in join": lambda: (("once", ("join", a, b, c)), ()),
         "once in show": lambda: (("once", ("show", a, m.pairs(m.scope(f, a)))), ()),
     }[rule]()
+
+
+def group_forms(m, f, rule):
+    a, b, c = m.two(f)
+    scope = m.scope(f, a)
+    keys = keys_of(f, a)
+    names = m.chance.sample(sorted(scope), m.chance.randint(0, len(scope)))
+    keyed = [*names, *[name for name in m.chance.choice(keys or [()]) if name not in names]]
+    least = m.tells(scope, ("least", "greatest"), 0 if names else 1)
+    tells = m.tells(scope, least=0 if names else 1) or (("n", "count", None),)
+    all_names = sorted(m.scope(f, a, b))
+    some_names = m.chance.sample(all_names, m.chance.randint(0, len(all_names)))
+    used = {*columns_in(f, c), *some_names}
+    early = [name for name in scope if name in used or m.chance.random() < 0.3]
+    inner = m.group(a, scope)
+    words = {"count": "sum", "sum": "sum", "least": "least", "greatest": "greatest"}
+    again = tuple((m.fresh(), words[word], name) for name, word, _ in inner[3])
+    few = tuple(m.chance.sample(inner[2], m.chance.randint(0 if again else 1, len(inner[2]))))
+    return {
+        "group off": lambda: (("group", a, tuple(keyed), tells), ()),
+        "group early": lambda: (("group", ("join", a, b, c), tuple(some_names), tells), (tuple(m.shuffled(early)),)),
+        "group thin": lambda: (("group", a, tuple(names), tells), ()),
+        "group once": lambda: (("group", a, tuple(names) if least else tuple(scope), least), ()),
+        "once as group": lambda: (("once", a), ()),
+        "group as once": lambda: (("group", a, tuple(names) or tuple(scope), ()), ()),
+        "regroup": lambda: (("group", inner, few, again[:m.chance.randint(0 if few else 1, len(again))]), ()),
+    }[rule]()
+
+
+def show_forms(m, f, rule):
+    a, b, c = m.two(f)
+    scope = m.scope(f, a)
+    shown = ("show", a, m.pairs(scope))
+    added = ("add", a, ("pick", a, m.over(f, a)))
+    n, other = m.chance.choice((0, 1, 1, 2, 3)), m.chance.choice((0, 1, 2, 3))
+    k = m.keys(scope)
+    key = m.chance.choice(keys_of(f, a) or [tuple(scope)])
+    rest = [name for name in scope if name not in key and m.chance.random() < 0.3]
+    keyed = tuple((name, m.chance.choice(("up", "down"))) for name in m.shuffled([*key, *rest]))
+    word = m.chance.choice(("join", "left", "half", "lack"))
+    return {
+        "show fuse": lambda: (("show", shown, m.pairs(m.scope(f, shown))), ()),
+        "show own": lambda: (a, ()),
+        "show off": lambda: (("show", a, tuple((name, column(name)) for name in m.shuffled(scope))), ()),
+        "show thin": lambda: (("show", ("join", a, b, c), m.pairs(m.scope(f, a, b))), ()),
+        "show add": lambda: (("show", added, m.pairs(scope)), ()),
+        "add swap": lambda: (added, ()),
+        "add lean": lambda: (("add", added, ("pick", a, m.over(f, a))), ()),
+        "join add": lambda: ((word, added, b, c), ()),
+        "first twice": lambda: (("first", ("first", a, k, n), k, other), ()),
+        "first add": lambda: (("first", added, k, n), ()),
+        "first early": lambda: (("first", ("left", a, b, m.meeting(f, a, b)), keyed, n), ()),
+        "first off": lambda: (("first", ("first", a, k, n), m.keys(scope), other), ()),
+    }[rule]()
+
+
+def form_of(maker, frame, rule):
+    """A part of the rule's form by chance, and the more for it; a frame without points has none for some."""
+    for forms in (pick_forms, join_forms, half_forms, leave_forms, group_forms, show_forms):
+        try:
+            return forms(maker, frame, rule)
+        except KeyError:
+            continue
 
 
 def same_on_books(case, forms, turn, rule, tries=100, least=15, books=3):
