@@ -43,8 +43,13 @@ def none_among(names, known):
     return not any([name in known for name in names])
 
 
-def own(names):
+def shown_as_they_come(names):
     return tuple([(name, ("column", name)) for name in names])
+
+
+# Wherever own is told of a rule, it is so by the order of the names; but for group off.
+def own(names):
+    return shown_as_they_come(sorted(names))
 
 
 def names_in_pairs(pairs):

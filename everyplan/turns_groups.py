@@ -2,7 +2,7 @@
 
 from everyplan.facts import has_key_among, keys_of
 from everyplan.scopes import columns_in
-from everyplan.turning import all_among, is_in, names_of, need, own, turned_by
+from everyplan.turning import all_among, is_in, names_of, need, own, shown_as_they_come, turned_by
 from everyplan.words import names_among
 
 # The words by which told values of a group may be told on, with the words by which those were told.
@@ -21,7 +21,7 @@ def of_one_row(tell):
 
 def group_off(frame, part):
     need(part[0] == "group" and has_key_among(keys_of(frame, part[1]), part[2]))
-    return ("show", part[1], own(part[2]) + tuple([of_one_row(tell) for tell in part[3]]))
+    return ("show", part[1], shown_as_they_come(part[2]) + tuple([of_one_row(tell) for tell in part[3]]))
 
 
 def of_parts(tell):

@@ -145,8 +145,9 @@ class Groups(TurnCase):
 
     def test_group_as_once(self):
         self.turned(("group", TOWN, ("t.land",), ()), "group as once", ("once", ("show", TOWN, (("t.land", column("t.land")),))))
-        for names in (("t.land", "t.folk"), ("t.folk", "t.land")):
-            own = tuple((name, column(name)) for name in names)
+        # Own of g comes in the order of the names, whatever the order of g is.
+        for names in (("t.land", "t.folk"), ("t.folk", "t.land"), ("t.name", "t.land", "t.folk"), ("t.land", "t.name", "t.folk")):
+            own = tuple((name, column(name)) for name in sorted(names))
             self.turned(("group", TOWN, names, ()), "group as once", ("once", ("show", TOWN, own)))
         for tells in ((COUNT,), (LEAST,)):
             self.refused(("group", TOWN, ("t.land",), tells), "group as once")
