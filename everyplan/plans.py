@@ -17,12 +17,15 @@ PLAN_SIZES = {
 TWO_SIDED = ("join", "left", "half", "lack")
 
 
-# The ask that a plan runs, the ask's columns, and the keys by which the plan's rows come.
+# The ask that a plan runs, the ask's columns, and the keys by which the plan's rows come; and, told
+# when the plan is put together, the plan itself and what is known of the plans straight within it.
 class Planned:
     def __init__(self, asked, found, order):
         self.asked = asked
         self.found = found
         self.order = order
+        self.plan = None
+        self.within = []
 
 
 def need_plan(truth):
@@ -217,7 +220,10 @@ PLANNED_BY = {
 def planned_of(frame, orders, plan):
     def build(part, given):
         make = PLANNED_BY[part[0]]
-        return make(frame, orders, part, given)
+        made = make(frame, orders, part, given)
+        made.plan = part
+        made.within = given
+        return made
 
     return folded(plan, plans_within, build)
 

@@ -7,7 +7,9 @@ from everyplan.asks import columns
 from everyplan.books import first_break
 from everyplan.errors import NoTurn, PlanError
 from everyplan.facts import keys_of
+from everyplan.frames import table_named
 from everyplan.plain import answer
+from everyplan.plans import ask_of, order_of
 from everyplan.scopes import columns_in
 
 REFUSALS = (
@@ -59,6 +61,14 @@ def not_let_by(case, turn, *given):
     case.assertIs(type(caught.exception), NoTurn)
     case.assertIsNone(caught.exception.place)
     case.assertEqual(repr(given), before)
+
+
+def weighed(rows):
+    """How often each row is there."""
+    found = {}
+    for row in rows:
+        found[row] = found.get(row, 0) + 1
+    return found
 
 
 def names_and_kinds(frame, ask):
@@ -446,6 +456,127 @@ class Maker:
             if word == "count" or fit:
                 tells.append((self.fresh(), word, None if word == "count" else self.chance.choice(fit)))
         return tuple(tells)
+
+    def orders(self, frame, least=0, most=4):
+        """Orders kept beside, each of some columns of a table."""
+        found = []
+        for place in range(self.chance.randint(least, most)):
+            table = self.chance.choice(frame[0])
+            names = [column[0] for column in table[1]]
+            found.append(("o" + "abcdefgh"[place], table[0], tuple(self.chance.sample(names, self.chance.randint(1, len(names))))))
+        return found
+
+    def plan(self, frame, orders, deep=2, word=None):
+        """A plan by chance, of this word where one is told; orders are one at least where walk or seek are."""
+        if word is None:
+            words = ("scan", "walk") if orders else ("scan",)
+            if deep:
+                words += tuple(one for one in PLAN_WORDS if one != "seek" or orders)
+            word = self.chance.choice(words)
+        return getattr(self, word + "_plan")(frame, orders, deep)
+
+    def plan_scope(self, frame, orders, *plans):
+        return self.scope(frame, *[ask_of(frame, orders, plan) for plan in plans])
+
+    def scan_plan(self, frame, orders, deep):
+        return ("scan", self.chance.choice(frame[0])[0], self.fresh())
+
+    def walk_plan(self, frame, orders, deep):
+        order = self.chance.choice(orders)
+        table = table_named(frame, order[1])
+        kinds = {name: kind for name, kind, _ in table[1]}
+        many = self.chance.randint(0, len(order[2]))
+        fixed = tuple(self.value(kinds[name], False) for name in order[2][:many])
+        bounds = [None, None]
+        if many < len(order[2]):
+            bounds = [(self.value(kinds[order[2][many]], False), self.chance.random() < 0.5) if self.chance.random() < 0.5 else None
+                      for _ in range(2)]
+        return ("walk", order[0], self.fresh(), fixed, *bounds)
+
+    def sift_plan(self, frame, orders, deep):
+        p = self.plan(frame, orders, deep - 1)
+        return ("sift", p, self.cond(frame, self.plan_scope(frame, orders, p), 2, 1))
+
+    def show_plan(self, frame, orders, deep):
+        p = self.plan(frame, orders, deep - 1)
+        return ("show", p, self.pairs(self.plan_scope(frame, orders, p)))
+
+    def once_plan(self, frame, orders, deep):
+        return ("once", self.plan(frame, orders, deep - 1))
+
+    def add_plan(self, frame, orders, deep):
+        p = self.plan(frame, orders, deep - 1)
+        scope = self.plan_scope(frame, orders, p)
+        return ("add", p, ("show", p, tuple((name, self.sum(scope, kind)) for name, kind in scope.items())))
+
+    def top_plan(self, frame, orders, deep):
+        p = self.plan(frame, orders, deep - 1)
+        return ("top", p, self.keys(self.plan_scope(frame, orders, p)), self.chance.choice((0, 1, 2, 3, 5, 50)))
+
+    def sort_plan(self, frame, orders, deep):
+        p = self.plan(frame, orders, deep - 1)
+        scope = self.plan_scope(frame, orders, p)
+        return ("sort", p, self.keys(scope) + self.keys(scope))
+
+    def nest_plan(self, frame, orders, deep):
+        p, q = self.plan(frame, orders, deep - 1), self.plan(frame, orders, deep - 1)
+        cond = self.pair_cond(frame, ask_of(frame, orders, p), ask_of(frame, orders, q), 1)
+        return ("nest", self.chance.choice(("join", "left", "half", "lack")), p, q, cond)
+
+    def beside(self, frame, scope):
+        """A condition besides sums that meet: often none."""
+        return ("yes",) if self.chance.random() < 0.5 else self.cond(frame, scope, 1, 1)
+
+    def seek_plan(self, frame, orders, deep):
+        p = self.plan(frame, orders, deep - 1)
+        order = self.chance.choice(orders)
+        table = ("table", order[1], self.fresh())
+        ones, others = self.plan_scope(frame, orders, p), self.scope(frame, table)
+        names = order[2][:self.chance.randint(1, len(order[2]))]
+        sums = tuple(self.sum(ones, others[table[2] + "." + name], 1) for name in names)
+        word = self.chance.choice(("join", "left", "half", "lack"))
+        return ("seek", word, p, order[0], table[2], sums, self.beside(frame, {**ones, **others}))
+
+    def hash_plan(self, frame, orders, deep):
+        p, q = self.plan(frame, orders, deep - 1), self.plan(frame, orders, deep - 1)
+        ones, others = self.plan_scope(frame, orders, p), self.plan_scope(frame, orders, q)
+        kinds = [self.chance.choice(list(others.values())) for _ in range(self.chance.choice((1, 1, 2)))]
+        sums = tuple(self.sum(ones, kind, 1) for kind in kinds)
+        word = self.chance.choice(("join", "left", "half", "lack"))
+        return ("hash", word, p, q, sums, tuple(self.sum(others, kind, 1) for kind in kinds), self.beside(frame, {**ones, **others}))
+
+    def merge_plan(self, frame, orders, deep):
+        while True:
+            p, q = self.plan(frame, orders, deep - 1), self.plan(frame, orders, deep - 1)
+            ones, others = self.plan_scope(frame, orders, p), self.plan_scope(frame, orders, q)
+            pairs = []
+            for name in self.shuffled(ones):
+                fit = [other for other in others if others[other] == ones[name] and other not in [pair[1] for pair in pairs]]
+                if fit and (not pairs or self.chance.random() < 0.5):
+                    pairs.append((name, self.chance.choice(fit)))
+            if pairs:
+                break
+        sides = [tuple(pair[place] for pair in pairs) for place in (0, 1)]
+        sorts = [self.ordered(frame, orders, plan, [(name, "up") for name in names]) for plan, names in zip((p, q), sides)]
+        return ("merge", *sorts, *sides, self.beside(frame, {**ones, **others}))
+
+    def ordered(self, frame, orders, plan, keys):
+        if order_of(frame, orders, plan)[:len(keys)] == keys:
+            return plan
+        return ("sort", plan, tuple(keys))
+
+    def groups_plan(self, frame, orders, deep):
+        p = self.plan(frame, orders, deep - 1)
+        return ("groups", p, *self.group(p, self.plan_scope(frame, orders, p))[2:])
+
+    def runs_plan(self, frame, orders, deep):
+        p = self.plan(frame, orders, deep - 1)
+        names, tells = self.group(p, self.plan_scope(frame, orders, p))[2:]
+        keys = [(name, self.chance.choice(("up", "down"))) for name in self.shuffled(names)]
+        return ("runs", self.ordered(frame, orders, p, keys), names, tells)
+
+
+PLAN_WORDS = ("sift", "show", "once", "add", "top", "sort", "nest", "seek", "hash", "merge", "groups", "runs")
 
 
 def pick_forms(m, f, rule):
