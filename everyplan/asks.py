@@ -28,6 +28,10 @@ def word_of(thing):
     return None
 
 
+def is_ask_word(word):
+    return word in ASK_SIZES
+
+
 def asks_within(ask):
     return ask[1:1 + ASK_SIZES[ask[0]][1]]
 

@@ -9,7 +9,7 @@ from everyplan.accesses import hash_by, merge_by, seek_by, walk_by
 from everyplan.asks import checked_asks, columns_by
 from everyplan.conds import conjuncts, joined
 from everyplan.errors import NoTurn
-from everyplan.papers import gone
+from everyplan.papers import turned
 from everyplan.plans import ask_of, order_of
 from everyplan.reshapes import join_paper, pick_paper
 from everyplan.walks import folded
@@ -250,13 +250,26 @@ def made_of(frame, orders, ask):
     return folded(ask, checked_asks, build)
 
 
-def leads(frame, orders, ask, plan, paper):
+def turned_or_none(frame, ask, turn):
     try:
-        return gone(frame, ask, paper) == ask_of(frame, orders, plan)
+        return turned(frame, ask, turn)
     except NoTurn:
-        return False
+        return None
+
+
+# The ask behind a paper, None where it isn't let by. Papers of one ask often begin alike: so the asks behind
+# their first turns are kept, by these turns.
+def ask_behind(frame, paper, asks):
+    for many in range(1, len(paper) + 1):
+        begun = paper[:many]
+        if begun not in asks:
+            asks[begun] = turned_or_none(frame, asks[begun[:-1]], begun[-1])
+        if asks[begun] is None:
+            return None
+    return asks[paper]
 
 
 def makes(frame, orders, ask):
+    asks = {(): ask}
     choices = made_of(frame, orders, ask).choices
-    return [choice for choice in choices if leads(frame, orders, ask, choice[0], choice[1])]
+    return [choice for choice in choices if ask_behind(frame, choice[1], asks) == ask_of(frame, orders, choice[0])]

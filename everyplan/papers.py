@@ -74,13 +74,18 @@ def is_small(ask):
     return True
 
 
+# The whole ask with a turned part, where it may be so large and is an ask.
+def put_back(frame, ask, way, part):
+    found = with_part(ask, way, part)
+    need(is_small(found))
+    return whole(frame, found)
+
+
 def turned(frame, ask, turn):
     need(is_tuple_of(turn, 3) and isinstance(turn[0], str) and turn[0] in RULES)
     part = part_at(ask, turn[1])
     need(part is not None)
-    found = with_part(ask, turn[1], part_turned(frame, part, turn[0], turn[2]))
-    need(is_small(found))
-    return whole(frame, found)
+    return put_back(frame, ask, turn[1], part_turned(frame, part, turn[0], turn[2]))
 
 
 def gone(frame, ask, paper):

@@ -576,6 +576,25 @@ class Maker:
         return ("runs", self.ordered(frame, orders, p, keys), names, tells)
 
 
+    def change(self, frame):
+        """A change by chance, which perhaps doesn't keep the frame."""
+        table = self.chance.choice(frame[0])
+        own = ("table", table[0], table[0])
+        roll = self.chance.random()
+        if roll < 0.5:
+            return ("put", table[0], tuple(self.value(kind, maybe) for _, kind, maybe in table[1]))
+        scope = self.scope(frame, own)
+        name = self.chance.choice(table[1])[0]
+        cond = self.chance.choice((
+            self.cond(frame, scope, 1, 1), ("is", column(table[0] + "." + name), self.sum({}, scope[table[0] + "." + name]))))
+        if roll < 0.65:
+            return ("take", table[0], cond)
+        pairs = []
+        for name, kind, _ in self.chance.sample(table[1], self.chance.randint(1, len(table[1]))):
+            pairs.append((name, self.sum(scope, kind, 1)))
+        return ("set", table[0], cond, tuple(pairs))
+
+
 PLAN_WORDS = ("sift", "show", "once", "add", "top", "sort", "nest", "seek", "hash", "merge", "groups", "runs")
 
 
