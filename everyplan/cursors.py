@@ -6,7 +6,7 @@ those within: so a plan may be as deep as calls may go.
 
 from everyplan.books import values_at
 from everyplan.frames import column_names, table_named
-from everyplan.plain import met, readied, sorted_places
+from everyplan.plain import met, names_read, readied, sorted_places
 from everyplan.sums import steps_of, worth_by
 
 
@@ -32,15 +32,30 @@ class Listed:
         return self.rows[self.place - 1]
 
 
+# Whether a condition holds by a row. Rows alike in all values that it reads are judged together.
+class Judge:
+    def __init__(self, frame, book, names, cond):
+        self.ready = readied(frame, book, cond)
+        read = names_read(self.ready)
+        self.names = [name for name in names if name in read]
+        self.places = [names.index(name) for name in self.names]
+        self.judged = {}
+
+    def meets(self, row):
+        values = values_at(row, self.places)
+        if values not in self.judged:
+            self.judged[values] = met(self.ready, dict(zip(self.names, values)))
+        return self.judged[values]
+
+
 class Sifted:
-    def __init__(self, inner, names, ready):
+    def __init__(self, inner, judge):
         self.inner = inner
-        self.names = names
-        self.ready = ready
+        self.judge = judge
 
     def pull(self):
         row = self.inner.pull()
-        while row is not None and not met(self.ready, dict(zip(self.names, row))):
+        while row is not None and not self.judge.meets(row):
             row = self.inner.pull()
         return row
 
@@ -126,10 +141,6 @@ def walked(frame, book, tally, tree, table, plan):
     pairs = tree.between(low_of(plan[3], plan[4], plan[5]), high_of(plan[3], plan[5]))
     tally.note(len(pairs))
     return Listed([rows[number] for values, number in pairs])
-
-
-def sifted(frame, book, inner, names, cond):
-    return Sifted(inner, names, readied(frame, book, cond))
 
 
 def shown(inner, names, pairs):

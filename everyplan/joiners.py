@@ -1,11 +1,12 @@
 """Joiners: rows of one part put together with those of another one, found in several ways.
 
-A finder tells, for a row of the first part, the rows of the second one that are held against the condition.
+A finder tells, for a row of the first part, the rows of the second one that are held against the condition, behind
+what they hang on: for rows of which that is alike they are the same.
 """
 
 from everyplan.books import values_at
 from everyplan.cursors import rows_by_name
-from everyplan.plain import met, sorted_places
+from everyplan.plain import sorted_places
 from everyplan.sums import steps_of, worth_by
 from everyplan.values import row_rank
 
@@ -27,7 +28,7 @@ class FindAll:
         self.rows = rows
 
     def found_for(self, row):
-        return self.rows
+        return ((), self.rows)
 
 
 class FindByTree:
@@ -40,10 +41,10 @@ class FindByTree:
     def found_for(self, row):
         values = self.reckoner.values_of(row)
         if values is None:
-            return []
+            return (None, [])
         pairs = self.tree.between((values, True), (values, True))
         self.tally.note(len(pairs))
-        return [self.rows[number] for key, number in pairs]
+        return (values, [self.rows[number] for key, number in pairs])
 
 
 class FindByHash:
@@ -56,7 +57,8 @@ class FindByHash:
                 self.bundles.setdefault(values, []).append(row)
 
     def found_for(self, row):
-        return self.bundles.get(self.reckoner.values_of(row), [])
+        values = self.reckoner.values_of(row)
+        return (values, self.bundles.get(values, []))
 
 
 # Rows of both parts come in order by their values here: so what was passed once is never met again.
@@ -73,26 +75,27 @@ class FindByMerge:
     def found_for(self, row):
         values = self.reckoner.values_of(row)
         if values is None:
-            return []
+            return (None, [])
         goal = row_rank(values)
         while self.place < len(self.ahead) and self.ahead[self.place][0] < goal:
             self.place += 1
         end = self.place
         while end < len(self.ahead) and self.ahead[end][0] == goal:
             end += 1
-        return [other for rank, other in self.ahead[self.place:end]]
+        return (values, [other for rank, other in self.ahead[self.place:end]])
 
 
 # Told for each row of the first part are, by the word, the rows that come of it.
 class Joiner:
-    def __init__(self, word, inner, names, others, ready, finder):
+    def __init__(self, word, inner, names, others, judge, finder):
         self.word = word
         self.inner = inner
-        self.names = names + others
         self.nothings = tuple([None for name in others])
-        self.places = sorted_places(self.names)
-        self.ready = ready
+        self.places = sorted_places(names + others)
+        self.judge = judge
+        self.read_places = [place for place in judge.places if place < len(names)]
         self.finder = finder
+        self.partners = {}
         self.waiting = []
 
     def pull(self):
@@ -104,8 +107,16 @@ class Joiner:
             self.waiting.reverse()
         return self.waiting.pop()
 
+    # Found once for all rows of the first part that are alike in what they hang on.
+    def partners_of(self, row):
+        found = self.finder.found_for(row)
+        key = (found[0], values_at(row, self.read_places))
+        if key not in self.partners:
+            self.partners[key] = [other for other in found[1] if self.judge.meets(row + other)]
+        return self.partners[key]
+
     def told_for(self, row):
-        partners = [other for other in self.finder.found_for(row) if self.meets(row + other)]
+        partners = self.partners_of(row)
         if self.word == "half":
             return [row] if partners else []
         if self.word == "lack":
@@ -113,6 +124,3 @@ class Joiner:
         if self.word == "left" and not partners:
             partners = [self.nothings]
         return [values_at(row + other, self.places) for other in partners]
-
-    def meets(self, whole):
-        return not self.ready or met(self.ready, dict(zip(self.names, whole)))

@@ -1,13 +1,13 @@
 """The runner: plans run over a book, row by row, and the work of it counted."""
 
 from everyplan.cursors import (
-    Added, EachOnce, Listed, Tally, drained, scanned, shown, sifted, table_names, walked,
+    Added, EachOnce, Judge, Listed, Sifted, Tally, drained, scanned, shown, table_names, walked,
 )
 from everyplan.errors import NoMore
 from everyplan.groupers import RunsTold, Teller, grouped
 from everyplan.joiners import FindAll, FindByHash, FindByMerge, FindByTree, Joiner, Reckoner
 from everyplan.orders import kept_beside, order_named
-from everyplan.plain import in_order, readied
+from everyplan.plain import in_order
 from everyplan.plans import planned_of
 from everyplan.walks import folded
 
@@ -46,7 +46,7 @@ def walk_cursor(ground, planned, given):
 
 
 def sift_cursor(ground, planned, given):
-    return sifted(ground.frame, ground.rows_of, given[0], names_of(planned), planned.plan[2])
+    return Sifted(given[0], Judge(ground.frame, ground.rows_of, names_of(planned), planned.plan[2]))
 
 
 def show_cursor(ground, planned, given):
@@ -71,8 +71,8 @@ def top_cursor(ground, planned, given):
 
 # A joiner of the first part within; the names of the second one's rows are told, its rows are the finder's affair.
 def joiner(ground, planned, given, word, others, cond, finder):
-    ready = readied(ground.frame, ground.rows_of, cond)
-    return Joiner(word, given[0], names_of(planned.within[0]), others, ready, finder)
+    names = names_of(planned.within[0])
+    return Joiner(word, given[0], names, others, Judge(ground.frame, ground.rows_of, names + others, cond), finder)
 
 
 def nest_cursor(ground, planned, given):
