@@ -18,12 +18,12 @@ from everyplan.walks import folded
 MOST_CHOICES = 12
 
 
-# The columns of a part, its choices, and the one of them that is likely the best.
+# The columns of a part, its choices, and the one of them that is likely the best: it comes behind the plain one.
 class Made:
     def __init__(self, found, choices, best):
         self.found = found
         self.names = [column[0] for column in found]
-        self.choices = each_once(choices + [best])
+        self.choices = each_once(choices[:1] + [best] + choices[1:])
         self.best = best
 
 
@@ -150,25 +150,31 @@ def put_together(one, other, turns, make):
     return (make(one[0], other[0]), tuple(turns) + beneath(0, one[1]) + beneath(1, other[1]))
 
 
+# Both plain children, put together without a turn.
+def plain_choice(one, other, make):
+    return put_together(one.choices[0], other.choices[0], [], make)
+
+
+# A way is (turns, what makes a plan of two): the best children by each of these ways.
+def best_by(one, other, ways):
+    return [put_together(one.best, other.best, turns, make) for turns, make in ways]
+
+
+# Other choices of either child, beside the best one of the other, by one way.
+def others_by(one, other, way):
+    choices = [put_together(choice, other.best, way[0], way[1]) for choice in one.choices]
+    choices.extend([put_together(one.best, choice, way[0], way[1]) for choice in other.choices])
+    return choices
+
+
 def added(p, q):
     return ("add", p, q)
 
 
 def made_of_add(frame, orders, part, given):
-    return several(given[0], given[1], [], [([], added)], added)
-
-
-# Of two children: both plain ones by the plain way; the best ones by each way; then others by the first way.
-# Choices that need nothing of the second child are told apart.
-def several(one, other, single, ways, plain):
-    turns = ways[0][0]
-    make = ways[0][1]
-    choices = [put_together(one.choices[0], other.choices[0], [], plain)] + single
-    choices.extend([put_together(one.best, other.best, way[0], way[1]) for way in ways])
-    best = single[0] if single else choices[1]
-    choices.extend([put_together(choice, other.best, turns, make) for choice in one.choices])
-    choices.extend([put_together(one.best, choice, turns, make) for choice in other.choices])
-    return (choices, best)
+    bests = best_by(given[0], given[1], [([], added)])
+    others = others_by(given[0], given[1], ([], added))
+    return ([plain_choice(given[0], given[1], added)] + bests + others, bests[0])
 
 
 def seek_choice(part, cond, overs, first, order, name, access):
@@ -227,9 +233,11 @@ def made_of_two(frame, orders, part, given):
         return ("nest", part[0], p, q, part[3])
 
     ways = hash_ways(part, given[0], given[1]) + [([], nest)]
-    found = several(given[0], given[1], seek_choices(orders, part, given[0]), ways, nest)
+    seeks = seek_choices(orders, part, given[0])
+    bests = best_by(given[0], given[1], ways)
     merges = merge_choices(frame, orders, part, given)
-    return (found[0][:4] + merges + found[0][4:], found[1])
+    choices = [plain_choice(given[0], given[1], nest)] + seeks + bests + merges
+    return (choices + others_by(given[0], given[1], ways[0]), (seeks + bests)[0])
 
 
 MADE_BY = {

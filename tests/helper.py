@@ -3,7 +3,7 @@
 import random
 import unittest
 
-from everyplan.asks import columns
+from everyplan.asks import children, columns
 from everyplan.books import first_break
 from everyplan.errors import NoTurn, PlanError
 from everyplan.facts import keys_of
@@ -68,6 +68,14 @@ def weighed(rows):
     found = {}
     for row in rows:
         found[row] = found.get(row, 0) + 1
+    return found
+
+
+def ways_in(ask, way=()):
+    """The ways to the ask itself and to each part within, each ahead of what is beneath it."""
+    found = [way]
+    for place, child in enumerate(children(ask)):
+        found += ways_in(child, way + (place,))
     return found
 
 
@@ -223,6 +231,13 @@ class Maker:
         tables = tuple(self.table(name) for name in ("a", "b", "c")[:self.chance.randint(1, 3)])
         points = [self.point(tables) for _ in range(self.chance.randint(0, 3))]
         return (tables, tuple(point for point in points if point is not None))
+
+    def pointed_frame(self):
+        """A frame with a point at least."""
+        frame = self.frame()
+        while not frame[1]:
+            frame = self.frame()
+        return frame
 
     def table(self, name):
         many = self.chance.randint(1, 3)
@@ -756,9 +771,7 @@ def same_on_books(case, forms, turn, rule, tries=100, least=15, books=3):
     done = full = 0
     for seed in range(tries):
         maker = Maker(seed * 1000 + 17)
-        frame = maker.frame()
-        while rule in ("sure", "along", "half along") and not frame[1]:
-            frame = maker.frame()
+        frame = maker.pointed_frame() if rule in ("sure", "along", "half along") else maker.frame()
         part, more = forms(maker, frame, rule)
         try:
             goal = turn(frame, part, rule, more)

@@ -145,15 +145,18 @@ class Stores(HandCase):
         self.assertEqual(store.book(), a_book())
 
 
-class Whole(HandCase):
-    def setUp(self):
-        self.store = Store(FRAME, seen_book(1, 2))
-
+class BesideOthers(HandCase):
     def other(self, *changes):
+        """Another hand that makes these changes and is kept."""
         hand = self.store.begin("own")
         for change in changes:
             self.store.change(hand, change)
         self.store.keep(hand)
+
+
+class Whole(BesideOthers):
+    def setUp(self):
+        self.store = Store(FRAME, seen_book(1, 2))
 
     def test_another_answer(self):
         hand = self.store.begin("whole")
@@ -229,15 +232,9 @@ class Whole(HandCase):
             ("step", hand, "seen", 3, (6, None), None), ("kept", hand)])
 
 
-class Own(HandCase):
+class Own(BesideOthers):
     def setUp(self):
         self.store = Store(FRAME, seen_book(1, 2, 3))
-
-    def other(self, *changes):
-        hand = self.store.begin("own")
-        for change in changes:
-            self.store.change(hand, change)
-        self.store.keep(hand)
 
     def test_rows_that_stand_otherwise(self):
         hand = self.store.begin("own")

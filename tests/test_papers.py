@@ -7,7 +7,7 @@ from everyplan.papers import RULES, gone, turned
 from everyplan.plain import answer
 from tests.helper import (
     FRAME, ROAD, SEEN, START, TOWN, Maker, a_book, both, column, equal, form_of, names_and_kinds, nots, not_let_by, number,
-    odd_things,
+    odd_things, ways_in,
 )
 
 YES = ("yes",)
@@ -25,13 +25,6 @@ def dressed(many, ask):
 
 def asks_in(ask):
     return 1 + sum(asks_in(child) for child in children(ask))
-
-
-def ways_in(ask, way=()):
-    """The ways to the ask itself and to each part within."""
-    yield way
-    for place, child in enumerate(children(ask)):
-        yield from ways_in(child, way + (place,))
 
 
 class Rules(unittest.TestCase):
@@ -308,7 +301,7 @@ class ByChance(unittest.TestCase):
 
     def some_turn(self, maker, frame, ask):
         """A turn that is let by, with the turned ask; None where none was found."""
-        ways = list(ways_in(ask))
+        ways = ways_in(ask)
         for _ in range(60):
             way = maker.chance.choice(ways)
             rule = maker.chance.choice(RULES)
@@ -351,9 +344,7 @@ class ByChance(unittest.TestCase):
         used = {}
         for seed in range(6 * len(RULES)):
             maker = Maker(seed)
-            frame = maker.frame()
-            while not frame[1]:
-                frame = maker.frame()
+            frame = maker.pointed_frame()
             rule = RULES[seed % len(RULES)]
             part, more = form_of(maker, frame, rule)
             ask, way = self.around(maker, frame, part)

@@ -2,7 +2,7 @@
 
 import unittest
 
-from everyplan.asks import children, columns, part_at
+from everyplan.asks import columns, part_at
 from everyplan.conds import conjuncts
 from everyplan.costs import cost
 from everyplan.errors import NoAsk, NoTurn
@@ -14,19 +14,13 @@ from everyplan.plans import ask_of
 from everyplan.runner import run
 from everyplan.scopes import columns_in
 from tests.helper import (
-    FRAME, ROAD, SEEN, START, TOWN, Maker, a_book, both, column, equal, form_of, nots, number, odd_things, refused, text, weighed,
+    FRAME, ROAD, SEEN, START, TOWN, Maker, a_book, both, column, equal, form_of, nots, number, odd_things, refused, text, ways_in,
+    weighed,
 )
 
 YES = ("yes",)
 COUNTS = {"town": 4, "road": 4, "seen": 5}
 ORDERS = [("names", "town", ("name",)), ("starts", "road", ("start", "long"))]
-
-
-def ways_in(ask, way=()):
-    found = [way]
-    for place, child in enumerate(children(ask)):
-        found += ways_in(child, way + (place,))
-    return found
 
 
 def mores_of(frame, part, rule):
@@ -163,9 +157,7 @@ class AsksFrom(PlannerCase):
     def test_by_chance(self):
         for seed in range(2 * len(RULES)):
             maker = Maker(seed)
-            frame = maker.frame()
-            while not frame[1]:
-                frame = maker.frame()
+            frame = maker.pointed_frame()
             ask = form_of(maker, frame, RULES[seed % len(RULES)])[0]
             most = maker.chance.choice((1, 5, 12, 25))
             self.assertEqual(self.asks(frame, ask, most), come_to(frame, ask, most), (seed, ask))
@@ -225,9 +217,7 @@ class ToldPlans(PlannerCase):
     def test_by_chance(self):
         for seed in range(2 * len(RULES)):
             maker = Maker(seed + 5000)
-            frame = maker.frame()
-            while not frame[1]:
-                frame = maker.frame()
+            frame = maker.pointed_frame()
             ask = form_of(maker, frame, RULES[seed % len(RULES)])[0]
             orders = maker.orders(frame)
             counts = {table[0]: maker.chance.choice((0, 1, 5, 30)) for table in frame[0]}

@@ -72,9 +72,7 @@ class ThereAndBack(unittest.TestCase):
     def test_asks_by_chance(self):
         for seed in range(6 * len(RULES)):
             maker = Maker(seed)
-            frame = maker.frame()
-            while not frame[1]:
-                frame = maker.frame()
+            frame = maker.pointed_frame()
             for ask in (maker.ask(frame, 1 + seed % 4, 2), form_of(maker, frame, RULES[seed % len(RULES)])[0]):
                 self.assertEqual(read_ask(show_ask(ask)), ask)
             change = maker.change(frame)

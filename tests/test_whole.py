@@ -2,7 +2,7 @@
 
 import unittest
 
-from everyplan.asks import children, columns, part_at
+from everyplan.asks import columns, part_at
 from everyplan.bounds import bounds
 from everyplan.desk import Desk
 from everyplan.errors import Late, NoKeep, NoTurn, PlanError
@@ -15,16 +15,9 @@ from everyplan.planner import chosen, told_plans
 from everyplan.plans import ask_of, order_of
 from everyplan.runner import run, work_of
 from everyplan.texts import read_ask, read_change, show_ask, show_change, show_cond
-from tests.helper import Maker, form_of, names_and_kinds, odd_things, refused, weighed
+from tests.helper import Maker, form_of, names_and_kinds, odd_things, refused, ways_in, weighed
 from tests.test_planner import mores_of
 from tests.test_runner import counted, is_in_order
-
-
-def ways_in(ask, way=()):
-    found = [way]
-    for place, child in enumerate(children(ask)):
-        found += ways_in(child, way + (place,))
-    return found
 
 
 def row_of(name, turn):
@@ -40,13 +33,6 @@ def row_of(name, turn):
     elif rule == "group early":
         written = " by(" + ", ".join(more[0]) + ")"
     return f"turn {name} {rule.replace(' ', '-')} {'.'.join(map(str, way)) or '-'}{written}"
-
-
-def with_points(maker):
-    frame = maker.frame()
-    while not frame[1]:
-        frame = maker.frame()
-    return frame
 
 
 def form_let_by(maker, frame, rule):
@@ -116,7 +102,7 @@ class Whole(unittest.TestCase):
         used = {}
         for seed in range(3 * len(RULES)):
             maker = Maker(seed + 9000)
-            frame = with_points(maker)
+            frame = maker.pointed_frame()
             desk = Desk(show_frame(frame))
             self.assertEqual(read_frame(show_frame(frame)), frame)
             store = Store(frame, {table[0]: [] for table in frame[0]})
@@ -145,7 +131,7 @@ class Whole(unittest.TestCase):
     def test_turned_planned_and_run(self):
         for seed in range(len(RULES)):
             maker = Maker(seed + 20000)
-            frame = with_points(maker)
+            frame = maker.pointed_frame()
             ask, more = form_let_by(maker, frame, RULES[seed])
             paper, now = self.some_turns(maker, frame, ask, (RULES[seed], (), more), 10)
             self.assertEqual(gone(frame, ask, paper), now)
@@ -184,7 +170,7 @@ class Whole(unittest.TestCase):
             self.assertEqual(work_of(frame, orders, book, plan), counted(frame, orders, book, plan))
 
     def test_refusals_of_a_desk_change_nothing(self):
-        desk = Desk(show_frame(with_points(Maker(3))))
+        desk = Desk(show_frame(Maker(3).pointed_frame()))
         for odd in odd_things():
             with self.assertRaises(PlanError):
                 desk.say(odd)
