@@ -1,6 +1,6 @@
 import unittest
 
-from everyplan.errors import NoFrame, NoText
+from everyplan.errors import NoFrame, NoText, PlanError
 from everyplan.frametexts import read_frame, show_frame
 from tests.helper import FRAME, Maker, odd_things, refused
 
@@ -103,6 +103,23 @@ class NoSuchText(unittest.TestCase):
     def test_lines_are_looked_at_ahead_of_the_frame(self):
         self.no_text("table A\ncolumn x colour\nkey")
         self.no_text("table a\ntable a\n ")
+
+
+class Bent(unittest.TestCase):
+    def test_each_sign_left_out_put_in_and_bent(self):
+        """What can still be read is shown by that very text."""
+        read = 0
+        for place in range(len(TEXT)):
+            for sign in ("", " ", "\n", "a", "x", "A", ".", "0", "\t", "~"):
+                for other in (TEXT[:place] + sign + TEXT[place + 1:], TEXT[:place] + sign + TEXT[place:]):
+                    try:
+                        frame = read_frame(other)
+                    except PlanError as refusal:
+                        self.assertIn(type(refusal), (NoText, NoFrame))
+                        continue
+                    self.assertEqual(show_frame(frame), other)
+                    read += 1
+        self.assertGreater(read, 100)
 
 
 class NoSuchFrame(unittest.TestCase):
